@@ -9,6 +9,7 @@ import (
 
 	"apograph/api"
 	"apograph/charset"
+	"apograph/samples"
 )
 
 // The tables and functions down to the samples restate the chapter's definitions in another way than the package does.
@@ -97,23 +98,6 @@ func wantedOrder(a, b string) int {
 	return cmp.Or(cmp.Compare(wantedFold(p), wantedFold(q)), cmp.Compare(p, q), cmp.Compare(a, b))
 }
 
-// stringsOf returns all strings of at most most of the characters.
-func stringsOf(chars string, most int) []string {
-	all := []string{""}
-	last := all
-	for range most {
-		var next []string
-		for _, s := range last {
-			for i := range len(chars) {
-				next = append(next, s+chars[i:i+1])
-			}
-		}
-		all = append(all, next...)
-		last = next
-	}
-	return all
-}
-
 // randomStrings returns n strings of at most most of the characters; the same ones in each run.
 func randomStrings(n, most int, chars string) []string {
 	r := rand.New(rand.NewSource(1))
@@ -136,9 +120,9 @@ func allBytes() string {
 	return string(b)
 }
 
-// samples returns short strings of each kind of characters, and longer ones of the alphabet, of words' characters, and of any bytes.
-func samples() []string {
-	l := stringsOf("aZ^~1'. <\xff", 4)
+// sampleTexts returns short strings of each kind of characters, and longer ones of the alphabet, of words' characters, and of any bytes.
+func sampleTexts() []string {
+	l := samples.Strings("aZ^~1'. <\xff", 4)
 	l = append(l, randomStrings(2000, 80, alphabet)...)
 	l = append(l, randomStrings(2000, 80, wordChars)...)
 	l = append(l, randomStrings(2000, 80, letters+letters+marks)...)
@@ -149,7 +133,7 @@ func samples() []string {
 
 // P1.1 for all functions but Kind and Compare.
 func TestFunctionsOfStrings(t *testing.T) {
-	for _, s := range samples() {
+	for _, s := range sampleTexts() {
 		if got, want := charset.Check(s), wantedCheck(s); got != want {
 			t.Errorf("Check(%q) = %d, want %d", s, got, want)
 		}
@@ -192,7 +176,7 @@ func TestKind(t *testing.T) {
 
 // P1.1 for Compare.
 func TestCompare(t *testing.T) {
-	l := stringsOf("aAb^~1", 3)
+	l := samples.Strings("aAb^~1", 3)
 	l = append(l, randomStrings(100, 12, allBytes())...)
 	for _, a := range l {
 		for _, b := range l {
@@ -288,7 +272,7 @@ func TestLongTexts(t *testing.T) {
 
 // P1.3.
 func TestForms(t *testing.T) {
-	for _, s := range samples() {
+	for _, s := range sampleTexts() {
 		folded, plain := charset.Fold(s), charset.Plain(s)
 		if charset.Fold(folded) != folded {
 			t.Errorf("%q: folded again", s)
@@ -322,7 +306,7 @@ func TestForms(t *testing.T) {
 
 // P1.4.
 func TestClusters(t *testing.T) {
-	for _, s := range samples() {
+	for _, s := range sampleTexts() {
 		clusters := charset.Clusters(s)
 		if strings.Join(clusters, "") != s || slices.Contains(clusters, "") {
 			t.Errorf("Clusters(%q) = %q", s, clusters)
@@ -356,7 +340,7 @@ func TestClusters(t *testing.T) {
 // P1.5 for all samples.
 func TestWordsAndNames(t *testing.T) {
 	var words []string
-	for _, s := range samples() {
+	for _, s := range sampleTexts() {
 		if charset.IsName(s) && !charset.IsWord(s) {
 			t.Errorf("the name %q is no word", s)
 		}
@@ -419,7 +403,7 @@ func TestChosenWordsAndNames(t *testing.T) {
 
 // P1.6: strings are in a total order if each one stands before all behind it in a sorted list of them.
 func TestDictionaryOrder(t *testing.T) {
-	l := stringsOf("aAb^%1'", 3)
+	l := samples.Strings("aAb^%1'", 3)
 	l = append(l, randomStrings(300, 10, allBytes())...)
 	slices.Sort(l)
 	l = slices.Compact(l)
