@@ -8,6 +8,7 @@ import (
 
 	"apograph/api"
 	"apograph/intset"
+	"apograph/samples"
 )
 
 // The functions down to the samples restate the chapter's definitions in another way than the package does: members are looked for in the lists, and covers are looked for among all lists of indices, in the order in which the chapter compares them.
@@ -185,23 +186,6 @@ func wrong() [][]int {
 	}
 }
 
-// unchanged fails the test if the lists are not the same when the test's function ends.
-func unchanged(t *testing.T, l ...[]int) func() {
-	t.Helper()
-	given := make([][]int, len(l))
-	for i, a := range l {
-		given[i] = slices.Clone(a)
-	}
-	return func() {
-		t.Helper()
-		for i, a := range l {
-			if !slices.Equal(a, given[i]) {
-				t.Errorf("%v was changed to %v", given[i], a)
-			}
-		}
-	}
-}
-
 // must returns a function that returns the result of an operation on sets, and fails the test if there is an error, or if the result is no set.
 func must(t *testing.T, f func(a, b []int) ([]int, api.Errno)) func(a, b []int) []int {
 	t.Helper()
@@ -254,7 +238,7 @@ func TestRandomLists(t *testing.T) {
 		if i%2 == 0 {
 			slices.Sort(l)
 		}
-		check := unchanged(t, l)
+		check := samples.Unchanged(t, l)
 		if e := intset.Check(l); e != wantedCheck(l) {
 			t.Errorf("Check(%v): %d", l, e)
 		}
@@ -297,7 +281,7 @@ func TestOperations(t *testing.T) {
 	all := sets()
 	for _, a := range all {
 		for _, b := range all {
-			check := unchanged(t, a, b)
+			check := samples.Unchanged(t, a, b)
 			rest := only(a, b, false)
 			if l, e := intset.Union(a, b); e != api.OK || !slices.Equal(l, sorted(rest, b)) {
 				t.Errorf("Union(%v, %v): %v, %d", a, b, l, e)
@@ -342,7 +326,7 @@ func TestNoSets(t *testing.T) {
 	for _, a := range wrong() {
 		for _, b := range append(wrong(), nil, []int{1}, upTo(64)) {
 			for _, p := range [][2][]int{{a, b}, {b, a}} {
-				check := unchanged(t, a, b)
+				check := samples.Unchanged(t, a, b)
 				u, e := intset.Union(p[0], p[1])
 				x, f := intset.Intersect(p[0], p[1])
 				m, g := intset.Minus(p[0], p[1])
@@ -411,7 +395,7 @@ func TestComplements(t *testing.T) {
 	all := append(sets(), wrong()...)
 	for _, n := range append([]int{math.MinInt, -64, -1, 65, 66, 128, math.MaxInt}, upTo(65)...) {
 		for _, a := range all {
-			check := unchanged(t, a)
+			check := samples.Unchanged(t, a)
 			l, e := intset.Complement(n, a)
 			if want, f := wantedComplement(n, a); !slices.Equal(l, want) || e != f {
 				t.Errorf("Complement(%d, %v): %v, %d", n, a, l, e)
@@ -528,7 +512,7 @@ func TestPartitions(t *testing.T) {
 				n = max(0, n+r.Intn(3)-1)
 			}
 		}
-		check := unchanged(t, l...)
+		check := samples.Unchanged(t, l...)
 		is, e := intset.Partition(n, l)
 		if want, f := wantedPartition(n, l); is != want || e != f {
 			t.Fatalf("Partition(%d, %v): %v, %d", n, l, is, e)
@@ -592,7 +576,7 @@ func TestCoverByHand(t *testing.T) {
 		{[]int{1, 0}, make([][]int, 17), nil, api.ErrLimit}, {nil, slices.Repeat([][]int{{64}}, 17), nil, api.ErrLimit}, {nil, slices.Repeat([][]int{{64}}, 16), nil, api.ErrArgument},
 		{[]int{1, 0}, five, nil, api.ErrArgument}, {[]int{0, 0}, five, nil, api.ErrArgument}, {[]int{64}, nil, nil, api.ErrArgument}, {[]int{-1}, nil, nil, api.ErrArgument}, {nil, [][]int{{3, 3}}, nil, api.ErrArgument}, {[]int{9}, [][]int{{8, 9}, {2, 1}}, nil, api.ErrArgument}, {[]int{0}, [][]int{{0}, {-1}}, nil, api.ErrArgument},
 	} {
-		check := unchanged(t, append(slices.Clone(c.sets), c.target)...)
+		check := samples.Unchanged(t, append(slices.Clone(c.sets), c.target)...)
 		if l, e := intset.Cover(c.target, c.sets); !slices.Equal(l, c.want) || e != c.e {
 			t.Errorf("case %d: %v, %d", i, l, e)
 		}

@@ -1,5 +1,7 @@
-// Package samples makes strings with which the tests of other packages call their functions.
+// Package samples makes strings with which the tests of other packages call their functions, and checks that lists stay as they are.
 package samples
+
+import "slices"
 
 // Strings returns all strings of at most most of the bytes of chars, shorter ones first.
 func Strings(chars string, most int) []string {
@@ -16,4 +18,26 @@ func Strings(chars string, most int) []string {
 		last = next
 	}
 	return all
+}
+
+// Tester is what a check needs of a test.
+type Tester interface {
+	Helper()
+	Errorf(format string, args ...any)
+}
+
+// Unchanged returns a function that fails the test if the lists are not the same any more.
+func Unchanged[E comparable](t Tester, l ...[]E) func() {
+	given := make([][]E, len(l))
+	for i, a := range l {
+		given[i] = slices.Clone(a)
+	}
+	return func() {
+		t.Helper()
+		for i, a := range l {
+			if !slices.Equal(a, given[i]) {
+				t.Errorf("%v was changed to %v", given[i], a)
+			}
+		}
+	}
 }

@@ -23,3 +23,25 @@ func TestStrings(t *testing.T) {
 		}
 	}
 }
+
+// counter counts the errors of a test.
+type counter int
+
+func (c *counter) Helper() {}
+
+func (c *counter) Errorf(string, ...any) { *c++ }
+
+func TestUnchanged(t *testing.T) {
+	var errors counter
+	a, b := []int{1, 2}, []int{3}
+	check := samples.Unchanged(&errors, a, nil, b)
+	check()
+	if errors != 0 {
+		t.Errorf("%d errors without a change", errors)
+	}
+	b[0] = 4
+	check()
+	if errors != 1 {
+		t.Errorf("%d errors with a change", errors)
+	}
+}
