@@ -1,4 +1,4 @@
-// Package samples makes strings with which the tests of other packages call their functions, and checks that lists stay as they are.
+// Package samples makes strings and nodes with which the tests of other packages call their functions, and checks that lists stay as they are, or share no memory.
 package samples
 
 import "slices"

@@ -14,6 +14,7 @@ import (
 
 	"apograph/api"
 	"apograph/markup"
+	"apograph/samples"
 	"apograph/transcript"
 )
 
@@ -289,16 +290,7 @@ func wantedDepth(l []api.Node) (int, api.Errno) {
 	return most, api.OK
 }
 
-// all returns a text of all fields of all nodes.
-func all(l []api.Node) string {
-	s := "["
-	for _, n := range l {
-		s += fmt.Sprintf("(%d %q %d %s)", n.Kind, n.Text, n.Number, all(n.Parts))
-	}
-	return s + "]"
-}
-
-func wantedSame(a, b []api.Node) bool { return all(a) == all(b) }
+func wantedSame(a, b []api.Node) bool { return samples.Fields(a) == samples.Fields(b) }
 
 // The functions down to name return nodes of all kinds, valid or not.
 
@@ -338,24 +330,6 @@ func within(n int, l ...api.Node) []api.Node {
 		l = list(unclear(l...))
 	}
 	return l
-}
-
-// doubled returns a list with more than 2^n nodes, all of which share their memory.
-func doubled(n int) []api.Node {
-	l := list(line())
-	for range n {
-		l = list(unclear(l...), unclear(l...))
-	}
-	return l
-}
-
-// copied returns a copy of l that shares no memory with it.
-func copied(l []api.Node) []api.Node {
-	out := slices.Clone(l)
-	for i := range out {
-		out[i].Parts = copied(out[i].Parts)
-	}
-	return out
 }
 
 // brief returns a beginning of a text of all fields, for messages.
@@ -399,7 +373,7 @@ func checkString(t *testing.T, s string) api.Errno {
 // checkList checks what all functions of lists return for l. P10.1, P10.2 and P10.3.
 func checkList(t *testing.T, l []api.Node) api.Errno {
 	t.Helper()
-	before := copied(l)
+	before := samples.Copied(l)
 	e := transcript.Check(l)
 	if want := wantedCheck(l); e != want {
 		t.Fatalf("P10.1: Check(%s): %d, not %d", brief(l), e, want)
@@ -838,13 +812,13 @@ func TestSame(t *testing.T) {
 	}
 	for i, a := range lists {
 		for j, b := range lists {
-			if is := transcript.Same(a, copied(b)); is != (i == j) || is != wantedSame(a, b) {
+			if is := transcript.Same(a, samples.Copied(b)); is != (i == j) || is != wantedSame(a, b) {
 				t.Errorf("%s and %s: %t", brief(a), brief(b), is)
 			}
 		}
 	}
 	empty := []api.Node{}
-	if many := lines(5000); !transcript.Same(many, copied(many)) || transcript.Same(many, lines(5001)) || transcript.Same(many, append(lines(4999), verse())) {
+	if many := lines(5000); !transcript.Same(many, samples.Copied(many)) || transcript.Same(many, lines(5001)) || transcript.Same(many, append(lines(4999), verse())) {
 		t.Error("Same of long lists")
 	}
 	if !transcript.Same(nil, empty) || !transcript.Same(empty, nil) || !transcript.Same(empty, empty) || !transcript.Same(list(unclear()), list(unclear(empty...))) || !transcript.Same(list(api.Node{Kind: 7, Parts: empty}), list(api.Node{Kind: 7})) {
@@ -1115,7 +1089,7 @@ func TestHuge(t *testing.T) {
 		l    []api.Node
 		want api.Errno
 	}{
-		{doubled(60), api.ErrLimit}, {doubled(12)[:1], api.ErrLimit}, {doubled(11)[:1], api.OK}, {append(list(api.Node{}), doubled(60)...), api.ErrLimit}, {list(api.Node{Kind: 1, Parts: doubled(100)}), api.ErrLimit}, {lines(1 << 20), api.ErrLimit}, {within(1<<16, long), api.ErrLimit}, {within(16, lines(1<<20)...), api.ErrLimit},
+		{samples.Doubled(60), api.ErrLimit}, {samples.Doubled(12)[:1], api.ErrLimit}, {samples.Doubled(11)[:1], api.OK}, {append(list(api.Node{}), samples.Doubled(60)...), api.ErrLimit}, {list(api.Node{Kind: 1, Parts: samples.Doubled(100)}), api.ErrLimit}, {lines(1 << 20), api.ErrLimit}, {within(1<<16, long), api.ErrLimit}, {within(16, lines(1<<20)...), api.ErrLimit},
 		// Together they are far longer than they are in memory.
 		{slices.Repeat(list(long, line()), 200), api.ErrLimit}, {slices.Repeat(list(text(times(maxText-9, "a")), gap(1)), 200), api.ErrLimit}, {append(slices.Repeat(list(long, line()), 50), api.Node{}), api.ErrKind}, {slices.Repeat(list(long), 2), api.ErrOrder},
 	} {
@@ -1131,7 +1105,7 @@ func TestHuge(t *testing.T) {
 		}
 	}
 	// What is left out or joined to other nodes need not be walked through.
-	dropped := list(api.Node{Kind: 1, Parts: doubled(60)}, text("a"), api.Node{Kind: 1, Text: "b", Parts: doubled(60)})
+	dropped := list(api.Node{Kind: 1, Parts: samples.Doubled(60)}, text("a"), api.Node{Kind: 1, Text: "b", Parts: samples.Doubled(60)})
 	if m := transcript.Merge(dropped); !wantedSame(m, list(text("ab"))) {
 		t.Error(brief(m))
 	}
@@ -1147,55 +1121,19 @@ func TestHuge(t *testing.T) {
 	}
 }
 
-// listsIn returns l and all lists in it that are not empty.
-func listsIn(l []api.Node) [][]api.Node {
-	if len(l) == 0 {
-		return nil
-	}
-	all := [][]api.Node{l}
-	for _, n := range l {
-		all = append(all, listsIn(n.Parts)...)
-	}
-	return all
-}
-
-// checkNew checks that no two lists of a result, and of other nodes, share memory.
-func checkNew(t *testing.T, result, other []api.Node) {
-	t.Helper()
-	lists, others := listsIn(result), listsIn(other)
-	want, otherWant := all(result), all(other)
-	for i, a := range lists {
-		for _, b := range append(lists[i+1:len(lists):len(lists)], others...) {
-			if &a[0] == &b[0] {
-				t.Errorf("lists of %s share memory", want)
-			}
-		}
-		// What is appended to one list is not seen in another one.
-		if _ = append(a, api.Node{Kind: 99}); all(result) != want || all(other) != otherWant {
-			t.Errorf("lists of %s share memory behind their ends", want)
-		}
-	}
-	for _, a := range lists {
-		clear(a)
-	}
-	if all(other) != otherWant {
-		t.Errorf("%s shares memory with other nodes", want)
-	}
-}
-
 // LANGUAGE 7: results are new memory, and no two lists of a result share memory.
 func TestResultsAreNew(t *testing.T) {
 	s := "de<add 1>us<unclear>a</unclear><unclear>b<lb/></unclear></add><lb/><add 2>c</add>"
 	l := parse(t, s)
-	checkNew(t, parse(t, s), l)
-	checkNew(t, transcript.Merge(l), l)
+	samples.CheckNew(t, parse(t, s), l)
+	samples.CheckNew(t, transcript.Merge(l), l)
 	shared := unclear(text("a"), unclear(text("b")))
 	l = list(shared, shared, text("c"), text("d"), within(3, shared)[0])
-	checkNew(t, transcript.Merge(l), l)
+	samples.CheckNew(t, transcript.Merge(l), l)
 	r := rand.New(rand.NewSource(5))
 	for range 1000 {
 		l := randomNodes(r, 4, false)
-		checkNew(t, transcript.Merge(l), l)
-		checkNew(t, parse(t, marked(l)), parse(t, marked(l)))
+		samples.CheckNew(t, transcript.Merge(l), l)
+		samples.CheckNew(t, parse(t, marked(l)), parse(t, marked(l)))
 	}
 }
